@@ -1,0 +1,1 @@
+"""Strings round marks: tracks among marks, and the words they spell."""
