@@ -1,1 +1,1 @@
-"""Strings round marks: tracks among marks, and the words they spell."""
+"""Strings round marks: tracks among marks, their words, their taut strings, courses and measures."""

@@ -1,5 +1,7 @@
 """Places, and the straight pieces between them, in whole numbers alone."""
 
+from tautstrings.reader import pairs_told
+
 FARTHEST = 1000000
 
 
@@ -9,13 +11,11 @@ def in_range(x, y):
 
 def places_told(numbers, least):
     """The places that a list tells two by two, or None if it doesn't tell so many good ones."""
-    if len(numbers) % 2 == 1 or len(numbers) < 2 * least:
+    places = pairs_told(numbers)
+    if places is None or len(places) < least:
         return None
-    places = []
-    for k in range(0, len(numbers), 2):
-        if not in_range(numbers[k], numbers[k + 1]):
-            return None
-        places.append((numbers[k], numbers[k + 1]))
+    if not all([in_range(x, y) for x, y in places]):
+        return None
     return places
 
 

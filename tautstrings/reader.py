@@ -21,3 +21,10 @@ class Reader:
         start = self.position
         self.position = start + size
         return self.calls[start:start + size]
+
+
+def pairs_told(numbers):
+    """The numbers two by two, or None if one is left over."""
+    if len(numbers) % 2 == 1:
+        return None
+    return [(numbers[k], numbers[k + 1]) for k in range(0, len(numbers), 2)]

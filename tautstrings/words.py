@@ -14,6 +14,15 @@ def passes_eastward(a, b, place):
     return a[0] <= place[0] < b[0] and turn(a, b, place) < 0
 
 
+def ray_crossing(a, b, place):
+    """1 if the way from a to b crosses the ray of a mark at the place leftwards, -1 if rightwards, else 0."""
+    if passes_eastward(a, b, place):
+        return -1
+    if passes_eastward(b, a, place):
+        return 1
+    return 0
+
+
 def piece_letters(a, b, marks, rays):
     # A piece that goes west crosses just those rays that it crosses eastward when gone backwards.
     if a[0] < b[0]:
@@ -38,3 +47,8 @@ def reduced_word(letters):
         else:
             kept.append(letter)
     return kept
+
+
+def winding(places, place):
+    """How often the track goes round a mark at the place leftwards, less how often rightwards."""
+    return sum([ray_crossing(places[k], places[k + 1], place) for k in range(len(places) - 1)])

@@ -1,6 +1,7 @@
 """The package keeps to the small part of the language: what can be seen by a walk over its files."""
 
 import ast
+import builtins
 import re
 import unittest
 from pathlib import Path
@@ -45,6 +46,7 @@ class Language(unittest.TestCase):
             self.assertLessEqual(len(text.split("\n")), 400, file.name)
             self.assertLessEqual(max(len(line) for line in text.split("\n")), 120, file.name)
             self.assertEqual(WORDS_OUT & set(re.findall(r"\w+", text)), set(), file.name)
+            self.assertNotRegex(text, r"dataclass|overload|contextmanager", file.name)
         for at, node in self.nodes():
             if isinstance(node, ast.FunctionDef):
                 self.assertLessEqual(node.end_lineno - node.lineno + 1, 40, at)
@@ -54,6 +56,33 @@ class Language(unittest.TestCase):
             if isinstance(node, ast.ImportFrom):
                 self.assertTrue(node.level == 0 and node.module.startswith("tautstrings."), at)
                 self.assertTrue((FOLDER / f"{node.module.split('.')[1]}.py").exists(), at)
+        for name, tree in self.trees():
+            drawn = [alias.name for node in tree.body if isinstance(node, ast.ImportFrom) for alias in node.names]
+            names = [node for node in ast.walk(tree) if isinstance(node, ast.Name)]
+            used = {node.id for node in names}
+            bound = {node.id for node in names if isinstance(node.ctx, ast.Store)}
+            told = {node.arg for node in ast.walk(tree) if isinstance(node, ast.arg)}
+            self.assertEqual(set(drawn) - used, set(), name)
+            self.assertEqual(set(drawn) & (bound | told), set(), name)
+
+    def test_no_file_draws_from_itself_by_others(self):
+        draws = {name[:-3]: [node.module.split(".")[1] for node in tree.body if isinstance(node, ast.ImportFrom)]
+                 for name, tree in self.trees()}
+        while draws:
+            free = [name for name in draws if not any(other in draws for other in draws[name])]
+            self.assertNotEqual(free, [], draws)
+            for name in free:
+                del draws[name]
+
+    def test_methods_and_values(self):
+        methods = set()
+        values = set()
+        for at, node in self.nodes():
+            if isinstance(node, ast.ClassDef):
+                methods |= {inner.name for inner in node.body if isinstance(inner, ast.FunctionDef)}
+            elif isinstance(node, ast.Attribute) and isinstance(node.ctx, ast.Store):
+                values.add(node.attr)
+        self.assertEqual(methods & values, set())
 
     def test_statements_and_expressions(self):
         for at, node in self.nodes():
@@ -80,7 +109,7 @@ class Language(unittest.TestCase):
                 own.add(node.attr)
             elif isinstance(node, ast.arg):
                 own.add(node.arg)
-        self.assertEqual(own & (PYTHONS_OWN | NAMES_OUT), set())
+        self.assertEqual(own & (PYTHONS_OWN | NAMES_OUT | set(dir(builtins))), set())
         self.assertEqual([name for name in own if name.startswith("_") and name != "__init__"], [])
         for at, node in self.nodes():
             if isinstance(node, ast.Name):

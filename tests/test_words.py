@@ -1,47 +1,11 @@
 """word and reduced."""
 
-from fractions import Fraction
 from itertools import product
 from random import Random
 
 from tautstrings.desk import answers
-from tests.helper import CallCase, EDGE, HUGE, ask, mark, more, points, put, reduced, track, word
-
-LEAN = Fraction(1, 10 ** 9)
-
-
-def leaning_word(places, marks):
-    """The word told another way: by the rays as they are thought to be, leaning a hair to the east."""
-    letters = []
-    for a, b in zip(places, places[1:]):
-        met = []
-        for number, (x, y) in enumerate(marks):
-            # Above 0 to the east of the line on which the ray lies.
-            before = (a[0] - x) - LEAN * (a[1] - y)
-            behind = (b[0] - x) - LEAN * (b[1] - y)
-            if (before > 0) == (behind > 0):
-                continue
-            share = before / (before - behind)
-            if a[1] + share * (b[1] - a[1]) > y:
-                met.append((share, -(number + 1) if behind > 0 else number + 1))
-        letters.extend(letter for share, letter in sorted(met))
-    return letters
-
-
-def slowly_reduced(letters):
-    letters = list(letters)
-    while True:
-        at = [k for k in range(len(letters) - 1) if letters[k] == -letters[k + 1]]
-        if not at:
-            return letters
-        del letters[at[-1]:at[-1] + 2]
-
-
-def in_triangle(place, u, v, w):
-    def side(a, b):
-        return (b[0] - a[0]) * (place[1] - a[1]) - (b[1] - a[1]) * (place[0] - a[0])
-    sides = (side(u, v), side(v, w), side(w, u))
-    return min(sides) >= 0 or max(sides) <= 0
+from tests.helper import (CallCase, EDGE, HUGE, ask, in_triangle, leaning_word, mark, more, plain_word, points, put,
+                          reduced, reduced_plainly, slowly_reduced, track, word)
 
 
 class Word(CallCase):
@@ -176,6 +140,8 @@ class Word(CallCase):
             seen += 1
             letters = leaning_word(places, marks)
             short = slowly_reduced(letters)
+            self.assertEqual(plain_word(places, marks), letters)
+            self.assertEqual(reduced_plainly(letters), short)
             self.assertEqual(given[1:], [[len(letters), *letters], [len(short), *short]])
 
 
