@@ -1,8 +1,8 @@
 """Turns round a mark, kept exactly.
 
 As one goes past a mark one is seen from it first in the direction of the place before, at last in that of the place
-behind. These two directions leave open only how many whole turns there are, and that is told by the laps: how often
-the mark's ray is crossed on the way leftwards, less how often rightwards.
+behind. All that these two directions don't tell is how many whole turns there are, and that is told by the laps: how
+often the mark's ray is crossed on the way leftwards, less how often rightwards.
 """
 
 from tautstrings.pieces import turn
